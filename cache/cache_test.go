@@ -105,8 +105,9 @@ func TestP22_1Check(t *testing.T) {
 	}
 }
 
-func TestP22_1CheckWrong(t *testing.T) {
-	for i, change := range []func(s *api.State){
+// spoilt are changes after which the good state may not be.
+func spoilt() []func(s *api.State) {
+	return []func(s *api.State){
 		func(s *api.State) { s.Config.Cap = 0 },
 		func(s *api.State) { s.Config.Cap = 19 },
 		func(s *api.State) { s.Config.Grid = nil },
@@ -155,16 +156,18 @@ func TestP22_1CheckWrong(t *testing.T) {
 		func(s *api.State) { s.Entries[0].Tags = []string{"x", "x"} },
 		func(s *api.State) { s.Entries[0].Tags = []string{""} },
 		func(s *api.State) { s.Entries[0].Tags = []string{"a", "b", "c", "d"} },
-		func(s *api.State) {
-			s.Entries = nil
-			for i := range 65 {
-				e := entry(fmt.Sprintf("%02d", i), i+1)
-				e.Pri = 3
-				s.Entries = append(s.Entries, e)
-			}
-			s.Config.Cap, s.Seq = 1<<16, 100
-		},
-	} {
+	}
+}
+
+func TestP22_1CheckWrong(t *testing.T) {
+	for i, change := range append(spoilt(), func(s *api.State) {
+		s.Config.Cap, s.Seq, s.Entries = 1<<16, 100, nil
+		for i := range 65 {
+			e := entry(fmt.Sprintf("%02d", i), i+1)
+			e.Pri = 3
+			s.Entries = append(s.Entries, e)
+		}
+	}) {
 		s := good()
 		change(&s)
 		c, e := cache.Of(s)

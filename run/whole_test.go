@@ -152,79 +152,88 @@ func config(r *rand.Rand, kind, admit, most int) api.Config {
 	return c
 }
 
+// tally is what the replies of a cache add up to.
+type tally struct {
+	has   map[string]string
+	stats api.Stats
+	seq   int
+}
+
+// add adds a call, and its reply, which is held against what is known.
+func (y *tally) add(t *testing.T, x api.Call, r api.Reply) {
+	if r.Err != api.OK {
+		return
+	}
+	y.seq++
+	for _, key := range r.Outs {
+		delete(y.has, key)
+	}
+	s := &y.stats
+	switch data, known := y.has[x.Key]; x.Kind {
+	case api.CGet:
+		if r.Has != known || r.Data != data {
+			t.Fatalf("%v is told %v, not %q", x, r, data)
+		}
+		if known {
+			s.Hits, s.HitBytes = s.Hits+1, s.HitBytes+uint64(len(data))
+		} else {
+			s.Misses++
+		}
+	case api.CPut:
+		s.Outs += uint64(len(r.Outs))
+		if r.Has {
+			y.has[x.Key], s.Puts = x.Data, s.Puts+1
+		} else {
+			s.Refused++
+		}
+	case api.CDelete:
+		delete(y.has, x.Key)
+	case api.CTick:
+		s.Expired += uint64(len(r.Outs))
+	case api.CResize:
+		s.Outs += uint64(len(r.Outs))
+	case api.CStats:
+		if r.Stats != *s {
+			t.Fatalf("%v is told, not %v", r.Stats, *s)
+		}
+	}
+}
+
+// fine are the calls that have no error.
+func fine(l []api.Call, replies []api.Reply) []api.Call {
+	var out []api.Call
+	for i, x := range l {
+		if replies[i].Err == api.OK {
+			out = append(out, x)
+		}
+	}
+	return out
+}
+
 func TestW1(t *testing.T) {
 	r := rand.New(rand.NewSource(49))
-	for kind := range 4 {
-		for admit := range 3 {
-			c := config(r, kind, admit, 150)
-			tape, l := bytes(r, 700), calls(r, 300, 150, 40)
-			l = append(l, api.Call{Kind: api.CPut}, api.Call{Kind: api.CDelete, Key: "none"}, api.Call{Kind: api.CResize}, api.Call{Kind: api.CStats})
-			replies, s := served(t, c, tape, l)
-			// What is told of each key is what was put last, and has not gone since; what is counted is what was told.
-			has, count, seq := map[string]string{}, api.Stats{}, 0
-			for i, x := range l {
-				y := replies[i]
-				if y.Err != api.OK {
-					continue
-				}
-				seq++
-				for _, key := range y.Outs {
-					delete(has, key)
-				}
-				data, known := has[x.Key]
-				switch x.Kind {
-				case api.CGet:
-					if y.Has != known || y.Data != data {
-						t.Fatalf("%d: %v, not %q", i, y, data)
-					}
-					if known {
-						count.Hits, count.HitBytes = count.Hits+1, count.HitBytes+uint64(len(data))
-					} else {
-						count.Misses++
-					}
-				case api.CPut:
-					count.Outs += uint64(len(y.Outs))
-					if y.Has {
-						has[x.Key], count.Puts = x.Data, count.Puts+1
-					} else {
-						count.Refused++
-					}
-				case api.CDelete:
-					delete(has, x.Key)
-				case api.CTick:
-					count.Expired += uint64(len(y.Outs))
-				case api.CResize:
-					count.Outs += uint64(len(y.Outs))
-				case api.CStats:
-					if y.Stats != count {
-						t.Fatalf("%d: %v, not %v", i, y.Stats, count)
-					}
-				}
+	for i := range 12 {
+		c := config(r, i/3, i%3, 150)
+		drawn, l := bytes(r, 700), calls(r, 300, 150, 40)
+		l = append(l, api.Call{Kind: api.CPut}, api.Call{Kind: api.CDelete, Key: "none"}, api.Call{Kind: api.CResize}, api.Call{Kind: api.CStats})
+		replies, s := served(t, c, drawn, l)
+		y := tally{has: map[string]string{}}
+		for i, x := range l {
+			y.add(t, x, replies[i])
+		}
+		if s.Stats != y.stats || s.Seq != y.seq || len(s.Entries) != len(y.has) {
+			t.Fatalf("%v, %d, not %v, %d", s.Stats, s.Seq, y.stats, y.seq)
+		}
+		for i, e := range s.Entries {
+			if y.has[e.Key] != e.Data || i > 0 && s.Entries[i-1].Key >= e.Key {
+				t.Fatalf("%q has %q", e.Key, e.Data)
 			}
-			if s.Stats != count || s.Seq != seq || len(s.Entries) != len(has) {
-				t.Fatalf("%v, %d, not %v, %d", s.Stats, s.Seq, count, seq)
-			}
-			for i, e := range s.Entries {
-				if has[e.Key] != e.Data || i > 0 && s.Entries[i-1].Key >= e.Key {
-					t.Fatalf("%q has %q", e.Key, e.Data)
-				}
-			}
-			// Calls with an error leave nothing behind.
-			var fine []api.Call
-			for i, x := range l {
-				if replies[i].Err == api.OK {
-					fine = append(fine, x)
-				}
-			}
-			all, _ := run.Write(c, tape, l)
-			some, _ := run.Write(c, tape, fine)
-			first, _ := run.Run(all)
-			second, _ := run.Run(some)
-			_, end := answered(t, second, fine)
-			saved, _ := snap.Write(end)
-			if !strings.HasSuffix(first, lay(saved)) {
-				t.Fatal("a call with an error leaves something behind")
-			}
+		}
+		// Calls with an error leave nothing behind.
+		_, end := served(t, c, drawn, fine(l, replies))
+		all, _ := snap.Write(s)
+		if some, _ := snap.Write(end); all != some {
+			t.Fatal("a call with an error leaves something behind")
 		}
 	}
 }
