@@ -12,23 +12,6 @@ import (
 
 const most = 1<<64 - 1
 
-// power is 2^62 times e to the minus 2^k, from below: the series of e to the minus 2^k/2^40, squared 40 times.
-func power(k int) *big.Int {
-	const bits = 400
-	x := new(big.Float).SetPrec(bits).SetMantExp(big.NewFloat(-1), k-40)
-	sum, term := new(big.Float).SetPrec(bits).SetInt64(1), new(big.Float).SetPrec(bits).SetInt64(1)
-	for i := int64(1); i < 40; i++ {
-		term.Mul(term, x)
-		term.Quo(term, new(big.Float).SetPrec(bits).SetInt64(i))
-		sum.Add(sum, term)
-	}
-	for range 40 {
-		sum.Mul(sum, sum)
-	}
-	n, _ := sum.SetMantExp(sum, 62).Int(nil)
-	return n
-}
-
 // model is Of as the chapter says it, with powers that are reckoned anew.
 func model(x uint64, powers map[int]*big.Int) uint64 {
 	if x >= api.MaxExp {
@@ -47,7 +30,7 @@ func model(x uint64, powers map[int]*big.Int) uint64 {
 func table() map[int]*big.Int {
 	powers := map[int]*big.Int{}
 	for k := -32; k <= 4; k++ {
-		powers[k] = power(k)
+		powers[k] = expo.Power(k)
 	}
 	return powers
 }
