@@ -112,6 +112,9 @@ func TestP18_2Wrong(t *testing.T) {
 			t.Errorf("%d: %v, %d", i, l, e)
 		}
 	}
+	if l, e := gds.Run(4096, []int{4096, 1}, []int{1 << 20, 0}, []int{0}); len(l) != 1 || e != api.OK {
+		t.Errorf("the greatest size, and cost: %v, %d", l, e)
+	}
 	if l, e := gds.Run(1, nil, nil, nil); len(l) != 0 || e != api.OK {
 		t.Errorf("nothing: %v, %d", l, e)
 	}

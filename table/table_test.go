@@ -160,6 +160,9 @@ func TestP13_2Full(t *testing.T) {
 		t.Fatal("95 keys")
 	}
 	l := filled(96)
+	if len(table.Keys(l)) != 96 {
+		t.Fatal("96 keys")
+	}
 	if got, e := table.Put(l, "more", 1); !slices.Equal(got, l) || e != api.ErrRoom {
 		t.Errorf("a key too many: %d", e)
 	}

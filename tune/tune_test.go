@@ -60,8 +60,11 @@ func TestP21_1Check(t *testing.T) {
 
 func TestP21Wrong(t *testing.T) {
 	for i, l := range wrong() {
-		if got := tune.Note(l, "c", 5); !slices.Equal(got, l) {
-			t.Errorf("%d: Note: %v", i, got)
+		// A request of "a" would mend some of them.
+		for _, key := range []string{"a", "c"} {
+			if got := tune.Note(l, key, 5); !slices.Equal(got, l) {
+				t.Errorf("%d: Note: %v", i, got)
+			}
 		}
 		if tune.Fill(l, 64, 8) != 0 || tune.Time(l, 64, 8) != 0 || tune.Score(l, 64, 8) != 0 {
 			t.Errorf("%d fills", i)
@@ -177,7 +180,7 @@ func window(r *rand.Rand) []api.Seen {
 func TestP21_2(t *testing.T) {
 	times := []uint64{0, 1, 2, 1 << 10, 1 << 32, 1 << 62, 1 << 63, most}
 	limits := []uint64{0, 1, 2, 64, 1000, 1 << 16, most}
-	for _, s := range []api.Seen{{}, seen("a", 1, 0), seen("a", 0, 1), seen("a", -1, 5), seen("a", 5, -1), seen("a", math.MinInt, math.MinInt), seen("a", 10, 5), seen("", 4096, 1000), seen("a", math.MaxInt, math.MaxInt), seen("a", 1, math.MaxInt)} {
+	for _, s := range []api.Seen{{}, seen("a", 1, 0), seen("a", 0, 1), seen("a", -1, 5), seen("a", 5, -1), seen("a", math.MinInt, math.MinInt), seen("a", 10, 5), seen("a", 10, 1), seen("a", 1, 1), seen("", 4096, 1000), seen("a", math.MaxInt, math.MaxInt), seen("a", 1, math.MaxInt)} {
 		for _, limit := range limits {
 			for _, time := range times {
 				if n := tune.Part(s, limit, time); n != part(s, limit, time) {
@@ -240,6 +243,7 @@ func TestP21_3Best(t *testing.T) {
 		{one, 100, []int{1, 1000}, 1000, true},
 		{one, 100, []int{1000, 1}, 1000, true},
 		{one, 100, nil, 0, false},
+		{one, 100, []int{1}, 1, true},
 		{one, 100, []int{0, -1, math.MinInt}, 0, false},
 		{one, 100, []int{0, 7, -1}, 7, true},
 		{nil, 100, []int{9, 3, 5}, 3, true},
