@@ -253,6 +253,33 @@ func TestP22Errors(t *testing.T) {
 	}
 }
 
+// The greatest of what calls may have.
+func TestP22Edges(t *testing.T) {
+	s := api.State{Config: api.Config{Cap: 5000}, Now: 7}
+	c, _ := cache.Of(s)
+	for i, x := range []api.Call{
+		{Kind: api.CPut, Key: "0123456789abcdef", Data: "x", Cost: 1 << 20, N: 1<<40 - 7, Tags: []string{"12345678", "b", "a"}},
+		{Kind: api.CPut, Key: "a", Data: strings.Repeat("x", 4096)},
+		{Kind: api.CPut, Key: "b", Data: strings.Repeat("x", 903)},
+		{Kind: api.CResize, N: 1 << 16},
+		{Kind: api.CResize, N: 5000},
+		{Kind: api.CTick},
+		{Kind: api.CTick, N: 1<<40 - 8},
+		{Kind: api.CPut, Key: "c", Data: "x", N: 1},
+		{Kind: api.CTick, N: 1},
+		{Kind: api.CPut, Key: "d", Data: "x"},
+		{Kind: api.CPurge, Key: "12345678"},
+		{Kind: api.CResize, N: 1},
+	} {
+		var r, want api.Reply
+		c, r = cache.Do(c, x)
+		s, want = do(s, x)
+		if got := cache.Show(c); r.Err != api.OK || !equalReplies(r, want) || !equalStates(got, s) {
+			t.Errorf("%d: %v, not %v", i, r, want)
+		}
+	}
+}
+
 // play does calls on a cache, and on the model, and holds them against each other.
 func play(t *testing.T, r *rand.Rand, c cache.Cache, calls, keys, size int) {
 	s := cache.Show(c)
