@@ -65,6 +65,12 @@ func (c *core) byKey() []int {
 	return ids
 }
 
+// until is when the entry of a number is due, 0 if never.
+func (c *core) until(id int) int {
+	at, _ := expiry.When(c.clock, id)
+	return at
+}
+
 // entry is the entry of a number.
 func (c *core) entry(id int) api.Entry {
 	o := c.objects[id]
